@@ -1,0 +1,122 @@
+package code
+
+import "palimpsest/api"
+
+// maker makes the code of a definition that Check takes.
+type maker struct {
+	api.Code
+	locals   map[string]int // each name's local
+	counters map[string]int // the local that counts a loop's rounds, by the loop's name
+}
+
+// put lays an instruction, and answers its place.
+func (m *maker) put(do, n int) int {
+	m.Instrs = append(m.Instrs, api.Instr{Do: do, N: n})
+	return len(m.Instrs) - 1
+}
+
+// local is a local that is new.
+func (m *maker) local() int {
+	m.Locals++
+	return m.Locals - 1
+}
+
+// names gives all names their locals, and the loops their counters: those of loops that run backwards come behind all names.
+func (m *maker) names(d api.Def) {
+	m.Params = len(d.Params)
+	for _, name := range d.Params {
+		m.locals[name] = m.local()
+	}
+	for _, name := range m.declared(d.Body) {
+		m.counters[name] = m.local()
+	}
+}
+
+// declared gives the names of a block and of the blocks within their locals, and answers those whose loops run backwards.
+func (m *maker) declared(list []api.Stmt) []string {
+	var backs []string
+	for _, s := range list {
+		switch s.Kind {
+		case api.SLet:
+			m.locals[s.Name] = m.local()
+		case api.SFor:
+			m.locals[s.Name] = m.local()
+			m.counters[s.Name] = m.locals[s.Name]
+		case api.SBack:
+			m.locals[s.Name] = m.local()
+			backs = append(backs, s.Name)
+		}
+		backs = append(backs, m.declared(s.Body)...)
+		backs = append(backs, m.declared(s.Else)...)
+	}
+	return backs
+}
+
+// block makes a block's code: of each statement its expressions come first, then what it does with them.
+func (m *maker) block(list []api.Stmt) {
+stmts:
+	for _, s := range list {
+		for _, e := range s.Exprs {
+			m.expr(e)
+		}
+		var last api.Instr
+		switch s.Kind {
+		case api.SIf:
+			m.choice(s)
+			continue stmts
+		case api.SFor, api.SBack:
+			m.loop(s)
+			continue stmts
+		case api.SLet:
+			last = api.Instr{Do: api.IKeep, N: m.locals[s.Name]}
+		case api.SSet:
+			last.Do = api.ISet
+		case api.SAdd:
+			last.Do = api.IAdd
+		case api.SSub:
+			last.Do = api.ISub
+		case api.SSwap:
+			last.Do = api.ISwap
+		}
+		m.put(last.Do, last.N)
+	}
+}
+
+// choice makes the code of an if's blocks, behind that of what it asks.
+func (m *maker) choice(s api.Stmt) {
+	zero := m.put(api.IZero, 0)
+	m.block(s.Body)
+	if len(s.Else) == 0 {
+		m.land(zero)
+		return
+	}
+	jump := m.put(api.IJump, 0)
+	m.land(zero)
+	m.block(s.Else)
+	m.land(jump)
+}
+
+// land makes the jump at a place go to where the code ends as yet.
+func (m *maker) land(jump int) {
+	m.Instrs[jump].N = len(m.Instrs)
+}
+
+// loop makes a loop's code: its block runs at least once, so one of no round has none.
+func (m *maker) loop(s api.Stmt) {
+	if s.N == 0 {
+		return
+	}
+	l := api.Loop{Local: m.counters[s.Name], N: s.N}
+	m.put(api.IPush, 0)
+	m.put(api.IKeep, l.Local)
+	l.From = len(m.Instrs)
+	if s.Kind == api.SBack {
+		m.put(api.IPush, s.N-1)
+		m.put(api.ILocal, l.Local)
+		m.put(api.IDo, operator("-"))
+		m.put(api.IKeep, m.locals[s.Name])
+	}
+	m.block(s.Body)
+	l.To = m.put(api.ILoop, len(m.Loops))
+	m.Loops = append(m.Loops, l)
+}
