@@ -461,17 +461,56 @@ func TestMostNames(t *testing.T) {
 func TestTurned(t *testing.T) {
 	u := turned(t, parsed(t, "op f(i) { let a = i * 2; [a] += 1; for k in 0..3 { [k] <> [a]; } }"))
 	makes(t, u, "1 4 {3 3 6 13}: local 0; push 2; do 3; keep 1; push 0; keep 3; push 2; local 3; do 2; keep 2; local 2; local 1; swap; loop 0; local 1; push 1; sub")
-	// Its names are declared in another order than those of what was turned: as they stand in it.
-	u = turned(t, parsed(t, "op f(i){for k in 0..3{[k]+=i;}let a=i;[a]-=1;}"))
-	makes(t, u, "1 4 {3 3 7 14}: local 0; keep 1; local 1; push 1; add; push 0; keep 3; push 2; local 3; do 2; keep 2; local 2; local 0; sub; loop 0")
-	u = turned(t, parsed(t, "op f(){for a in 0..2{[a]+=1;}for b in 0..3{[b]+=1;}}"))
-	makes(t, u, "0 4 {2 3 2 9} {3 2 12 19}: push 0; keep 2; push 2; local 2; do 2; keep 0; local 0; push 1; sub; loop 0; "+
-		"push 0; keep 3; push 1; local 3; do 2; keep 1; local 1; push 1; sub; loop 1")
 	// Needs and what is given aren't there any more; turned again neither.
 	d := parsed(t, "op f(i,v){need i<60;[i]+=v;if v<0{[0]<>[i];}give v;}")
 	makes(t, turned(t, d), "2 2: local 1; push 0; do 6; zero 7; push 0; local 0; swap; local 0; local 1; sub")
 	makes(t, turned(t, turned(t, d)), "2 2: local 0; local 1; add; local 1; push 0; do 6; zero 10; push 0; local 0; swap")
 	makes(t, turned(t, turned(t, parsed(t, "op b(){for i in 0..4{[i]+=1;}}"))), "0 1 {0 4 2 5}: push 0; keep 0; local 0; push 1; add; loop 0")
+}
+
+// The names of a turned definition have the locals that its text gives them, whatever order its statements stand in; and the counters
+// come in that order, too.
+func TestLocalsOfTurned(t *testing.T) {
+	round := func(text, want string) {
+		t.Helper()
+		makes(t, turned(t, parsed(t, text)), want)
+	}
+	// A let that comes ahead of a loop that its text has first.
+	round("op f() { for i in 0..2 { [0] += 1; } let a = 4; [1] += a; }",
+		"0 3 {2 2 7 14}: push 4; keep 1; push 1; local 1; sub; push 0; keep 2; push 1; local 2; do 2; keep 0; push 0; push 1; sub; loop 0")
+	round("op f(i){for k in 0..3{[k]+=i;}let a=i;[a]-=1;}",
+		"1 4 {3 3 7 14}: local 0; keep 2; local 2; push 1; add; push 0; keep 3; push 2; local 3; do 2; keep 1; local 1; local 0; sub; loop 0")
+	// Loops one behind the other, in either order.
+	round("op g() { for i in 0..2 { [i] += 1; } for j in 0..3 { [j] += 2; } }",
+		"0 4 {3 3 2 9} {2 2 12 19}: push 0; keep 3; push 2; local 3; do 2; keep 1; local 1; push 2; sub; loop 0; "+
+			"push 0; keep 2; push 1; local 2; do 2; keep 0; local 0; push 1; sub; loop 1")
+	round("op g() { for j in 0..2 { [j] += 1; } for i in 0..3 { [i] += 2; } }",
+		"0 4 {3 3 2 9} {2 2 12 19}: push 0; keep 3; push 2; local 3; do 2; keep 1; local 1; push 2; sub; loop 0; "+
+			"push 0; keep 2; push 1; local 2; do 2; keep 0; local 0; push 1; sub; loop 1")
+	// Names within blocks.
+	round("op h() { if 1 < 2 { let a = 1; [a] += 1; } for i in 0..2 { let b = 2; [b] += 1; } }",
+		"0 4 {3 2 2 11}: push 0; keep 3; push 1; local 3; do 2; keep 1; push 2; keep 2; local 2; push 1; sub; loop 0; push 1; zero 19; push 1; keep 0; local 0; push 1; sub")
+	round("op h(i){if i<1{for a in 0..2{}let b=i;[b]+=1;}else{for c in 0..3{}let d=i;[d]+=2;}let e=i;[e]+=3;}",
+		"1 8 {6 2 16 20} {7 3 29 33}: local 0; keep 5; local 5; push 3; sub; local 0; push 1; do 6; zero 22; local 0; keep 2; local 2; push 1; sub; push 0; keep 6; push 1; local 6; do 2; keep 1; loop 0; "+
+			"jump 34; local 0; keep 4; local 4; push 2; sub; push 0; keep 7; push 2; local 7; do 2; keep 3; loop 1")
+	// Loops within one another, and beside.
+	round("op h(){for a in 0..2{for b in 0..3{}for c in 0..4{}}for d in 0..5{}}",
+		"0 8 {7 5 2 6} {6 4 15 19} {5 3 22 26} {4 2 9 27}: push 0; keep 7; push 4; local 7; do 2; keep 3; loop 0; push 0; keep 4; push 1; local 4; do 2; keep 0; "+
+			"push 0; keep 6; push 3; local 6; do 2; keep 2; loop 1; push 0; keep 5; push 2; local 5; do 2; keep 1; loop 2; loop 3")
+	// Of no round: no code, but locals and a counter as the text has them.
+	round("op h(){for a in 0..0{let b=a;[b]+=1;}for c in 0..2{}let d=1;}", "0 6 {5 2 4 8}: push 1; keep 3; push 0; keep 5; push 1; local 5; do 2; keep 2; loop 0")
+}
+
+// Turned again a definition has its lets ahead, and its text's locals still.
+func TestLocalsOfTurnedTwice(t *testing.T) {
+	u := turned(t, turned(t, parsed(t, "op f(){for a in 0..2{[a]+=1;}let b=3;for c in 0..4{[c]-=b;}let d=b;[d]+=5;}")))
+	makes(t, u, "0 4 {0 2 6 9} {2 4 12 15}: push 3; keep 1; local 1; keep 3; push 0; keep 0; local 0; push 1; add; loop 0; push 0; keep 2; local 2; local 1; sub; loop 1; local 3; push 5; add")
+}
+
+// Places are numbers of any length: the text's order is theirs, and not that of their digits.
+func TestLocalsAtFarPlaces(t *testing.T) {
+	text := "op f(){for a in 0..2{" + strings.Repeat(" ", 80) + "}for b in 0..3{" + strings.Repeat(" ", 300) + "}let c=1;}"
+	makes(t, turned(t, parsed(t, text)), "0 5 {4 3 4 8} {3 2 11 15}: push 1; keep 2; push 0; keep 4; push 2; local 4; do 2; keep 1; loop 0; push 0; keep 3; push 1; local 3; do 2; keep 0; loop 1")
 }
 
 // P11.1: the error

@@ -1,6 +1,11 @@
 package code
 
-import "palimpsest/api"
+import (
+	"cmp"
+	"slices"
+
+	"palimpsest/api"
+)
 
 // maker makes the code of a definition that Check takes.
 type maker struct {
@@ -27,29 +32,39 @@ func (m *maker) names(d api.Def) {
 	for _, name := range d.Params {
 		m.locals[name] = m.local()
 	}
-	for _, name := range m.declared(d.Body) {
-		m.counters[name] = m.local()
+	list := inTextOrder(declared(d.Body))
+	for _, s := range list {
+		m.locals[s.Name] = m.local()
+	}
+	for _, s := range list {
+		switch s.Kind {
+		case api.SFor:
+			m.counters[s.Name] = m.locals[s.Name]
+		case api.SBack:
+			m.counters[s.Name] = m.local()
+		}
 	}
 }
 
-// declared gives the names of a block and of the blocks within their locals, and answers those whose loops run backwards.
-func (m *maker) declared(list []api.Stmt) []string {
-	var backs []string
+// declared is the statements that declare a name, of a block and of the blocks within.
+func declared(list []api.Stmt) []api.Stmt {
+	var all []api.Stmt
 	for _, s := range list {
 		switch s.Kind {
-		case api.SLet:
-			m.locals[s.Name] = m.local()
-		case api.SFor:
-			m.locals[s.Name] = m.local()
-			m.counters[s.Name] = m.locals[s.Name]
-		case api.SBack:
-			m.locals[s.Name] = m.local()
-			backs = append(backs, s.Name)
+		case api.SLet, api.SFor, api.SBack:
+			all = append(all, s)
 		}
-		backs = append(backs, m.declared(s.Body)...)
-		backs = append(backs, m.declared(s.Else)...)
+		all = append(all, declared(s.Body)...)
+		all = append(all, declared(s.Else)...)
 	}
-	return backs
+	return all
+}
+
+// inTextOrder sorts statements by their places: those of a turned operation stand in another order than the text has them, and only
+// their places still tell it.
+func inTextOrder(list []api.Stmt) []api.Stmt {
+	slices.SortStableFunc(list, func(a, b api.Stmt) int { return cmp.Compare(a.At, b.At) })
+	return list
 }
 
 // block makes a block's code: of each statement its expressions come first, then what it does with them.

@@ -27,21 +27,21 @@ type model struct {
 	locals, counters map[string]int
 }
 
-// modelOf has the locals of a definition's names, in the order in which its text declares them, then the counters.
-func modelOf(d api.Def) (model, int) {
+// modelOf has the locals of a definition's names, in the order in which a text declares them, then the counters. The text is the
+// operation's: the definition itself, or the one of which it was made.
+func modelOf(text, d api.Def) (model, int) {
 	m := model{locals: map[string]int{}, counters: map[string]int{}}
-	declared := regexp.MustCompile(`\b(let|for|back) (\w+)`).FindAllStringSubmatch(shownStmts(d.Body), -1)
 	names := slices.Clone(d.Params)
-	for _, found := range declared {
+	for _, found := range regexp.MustCompile(`\b(let|for|back) (\w+)`).FindAllStringSubmatch(shownStmts(text.Body), -1) {
 		names = append(names, found[2])
 	}
 	for i, name := range names {
 		m.locals[name], m.counters[name] = i, i
 	}
-	count := len(names)
-	for _, found := range declared {
-		if found[1] == "back" {
-			m.counters[found[2]] = count
+	count, shown := len(names), shownStmts(d.Body)
+	for _, name := range names {
+		if strings.Contains(shown, "back "+name+" ") {
+			m.counters[name] = count
 			count++
 		}
 	}
@@ -117,9 +117,9 @@ func (m model) rounds(s api.Stmt, body []line) []line {
 	return slices.Concat(ahead, body, []line{{do: api.ILoop, behind: len(body), loop: api.Loop{Local: counter, N: s.N}}})
 }
 
-// modelled is a definition's code by the second reading.
-func modelled(d api.Def) api.Code {
-	m, locals := modelOf(d)
+// modelled is the code, by the second reading, of a definition that was made of a text.
+func modelled(text, d api.Def) api.Code {
+	m, locals := modelOf(text, d)
 	var all []line
 	for _, e := range d.Needs {
 		all = append(append(all, m.expr(e)...), line{do: api.INeed})
@@ -145,24 +145,34 @@ func modelled(d api.Def) api.Code {
 // isMade holds what Compile answers of a definition against the second reading.
 func isMade(t *testing.T, d api.Def) api.Code {
 	t.Helper()
-	c, want := compiled(t, d), modelled(d)
+	return isMadeOf(t, d, d)
+}
+
+// isMadeOf asks the same of a definition that was made of a text, by turning it or by having loops of it run the other way.
+func isMadeOf(t *testing.T, text, d api.Def) api.Code {
+	t.Helper()
+	c, want := compiled(t, d), modelled(text, d)
 	if listed(c) != listed(want) || !slices.Equal(c.Instrs, want.Instrs) || !code.Same(c, want) {
 		t.Errorf("%q:\n%s, want\n%s", shown(d), listed(c), listed(want))
 	}
 	return c
 }
 
-// isMadeToo asks the same of a definition, of it turned, if it can be turned, and of both with some loops running the other way.
-func isMadeToo(t *testing.T, d api.Def, some func() bool) []api.Def {
+// isMadeToo asks the same of a text's definition, of it turned and turned again, if it can be turned, and of it with some loops
+// running the other way, turned or not.
+func isMadeToo(t *testing.T, text api.Def, some func() bool) []api.Def {
 	t.Helper()
-	defs := []api.Def{d, back(d), withBody(d, backward(d.Body, some))}
+	defs := []api.Def{text, back(text), withBody(text, backward(text.Body, some))}
 	for _, d := range slices.Clone(defs) {
 		if u, err := invert.Turn(d); err == nil {
 			defs = append(defs, u)
 		}
 	}
+	if len(defs) > 3 {
+		defs = append(defs, turned(t, defs[3]))
+	}
 	for _, d := range defs {
-		isMade(t, d)
+		isMadeOf(t, text, d)
 	}
 	return defs
 }
