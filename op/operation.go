@@ -29,8 +29,8 @@ type made struct {
 	err  error
 }
 
-func (m *made) get(make func() (api.Code, error)) (api.Code, error) {
-	m.once.Do(func() { m.code, m.err = make() })
+func (m *made) get(compile func() (api.Code, error)) (api.Code, error) {
+	m.once.Do(func() { m.code, m.err = compile() })
 	return m.code, m.err
 }
 
