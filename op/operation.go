@@ -9,6 +9,7 @@ import (
 	"palimpsest/code"
 	"palimpsest/invert"
 	"palimpsest/parse"
+	"palimpsest/vm"
 	"palimpsest/wire"
 )
 
@@ -61,6 +62,15 @@ func (x *operation) back() (api.Code, error) {
 		}
 		return code.Compile(d)
 	})
+}
+
+// run runs one of its codes.
+func (x *operation) run(which func(*operation) (api.Code, error), p api.Page, args []int) (api.Page, int, error) {
+	c, err := which(x)
+	if err != nil {
+		return api.Page{}, 0, err
+	}
+	return vm.Run(c, p, args...)
 }
 
 // sector is an operation's sector.

@@ -7,9 +7,11 @@ import (
 	"testing"
 
 	"palimpsest/api"
+	"palimpsest/code"
 	"palimpsest/eval"
 	"palimpsest/invert"
 	"palimpsest/op"
+	"palimpsest/vm"
 )
 
 // outcome is what Run or Undo answers, as a value.
@@ -172,6 +174,77 @@ func TestRunsAreCounted(t *testing.T) {
 	is()
 	o, add, put = opened(t, d, 0), 0, 0
 	is()
+}
+
+// branched is an operation of so many branches, each with two loops that turn round just below MaxSteps rounds. The steps of an operation
+// are those of its longest branch, but a code's are those of all of them, and the turned one's are more.
+func branched(count int) string {
+	const names = "abcdefghijklmnopqrstuvwxyz"
+	loops := func(i int) string {
+		return "for " + names[2*i:2*i+1] + " in 0..64{for " + names[2*i+1:2*i+2] + " in 0..29{}}"
+	}
+	text := loops(count - 1)
+	for i := count - 2; i >= 0; i-- {
+		text = "if true{" + loops(i) + "}else{" + text + "}"
+	}
+	return "op f(){" + text + "}"
+}
+
+// P13.1: a call whose code the machine refuses answers ErrCode, too, and isn't counted
+func TestRefusedCodesAreNotCounted(t *testing.T) {
+	refused, taken := 0, 0
+	for count := 1; count <= 8; count++ {
+		d := device(t, 16)
+		text := branched(count)
+		u, err := invert.Turn(parsed(t, text))
+		if err != nil {
+			t.Fatal(err)
+		}
+		c, err := code.Compile(u)
+		if err != nil {
+			t.Fatal(err)
+		}
+		good := vm.Check(c) == nil
+		o := formatted(t, d, 0)
+		defined(t, o, text)
+		for _, o := range []*op.Ops{o, opened(t, d, 0)} {
+			runs := 0
+			is := func(what string, err error, want api.Errno) {
+				t.Helper()
+				answers(t, what, err, want)
+				if want != api.ErrCode {
+					runs++
+				}
+				if got := o.Runs(1); got != runs {
+					t.Fatalf("%d branches: Runs behind %s that answered %v: %d, want %d", count, what, err, got, runs)
+				}
+			}
+			for range 2 {
+				_, _, err := o.Run(1, counted())
+				is("Run", err, 0)
+				_, _, err = o.Run(1, counted(), 5)
+				is("Run", err, api.ErrForm)
+				if good {
+					is("Undo", undoes(o, counted()), 0)
+					is("Undo", undoes(o, counted(), 5), api.ErrForm)
+					taken++
+					continue
+				}
+				is("Undo", undoes(o, counted()), api.ErrCode)
+				is("Undo", undoes(o, counted(), 5), api.ErrCode)
+				refused++
+			}
+		}
+	}
+	if refused == 0 || taken == 0 {
+		t.Error(refused, taken)
+	}
+}
+
+// undoes is the error of an Undo of operation 1.
+func undoes(o *op.Ops, p api.Page, args ...int) error {
+	_, err := o.Undo(1, p, args...)
+	return err
 }
 
 // P13.1: neither power nor crashes matter for runs
